@@ -1,0 +1,1 @@
+"""Latehouse: a ledger kept by houses that may lie."""
