@@ -17,6 +17,11 @@ def check_count(count):
         raise BadCount(f"a town has a whole number of houses from 1 to {MOST_HOUSES}")
 
 
+def is_house(count, thing):
+    """Tell whether a thing, of any kind, is a house of a town of so many houses."""
+    return is_whole(thing, 0, count - 1)
+
+
 def most_liars(count):
     """Return the most liars that a town bears."""
     check_count(count)

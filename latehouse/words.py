@@ -1,6 +1,6 @@
 """Rows, and the words by which houses call them and mark them."""
 
-from latehouse.counts import check_count, is_whole
+from latehouse.counts import check_count, is_house, is_whole
 
 SAY = "say"
 MARK = "mark"
@@ -29,7 +29,7 @@ def is_word(count, thing):
     if type(thing) is not tuple or len(thing) != 4:
         return False
     kind, number, row, house = thing
-    if not is_whole(number, 0, LAST_NUMBER) or not is_whole(house, 0, count - 1):
+    if not is_whole(number, 0, LAST_NUMBER) or not is_house(count, house):
         return False
     if not is_row(row):
         return False
@@ -41,9 +41,12 @@ def is_word(count, thing):
     return kind == MARK
 
 
+def place(word):
+    """Return what a word has in common with an unlike one: its kind, number and house."""
+    kind, number, row, house = word
+    return (kind, number, house)
+
+
 def are_unlike(one, other):
     """Tell whether two words differ in nothing but the row."""
-    kind, number, row, house = one
-    other_kind, other_number, other_row, other_house = other
-    same_place = kind == other_kind and number == other_number and house == other_house
-    return same_place and row != other_row
+    return place(one) == place(other) and one[2] != other[2]

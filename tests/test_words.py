@@ -6,18 +6,11 @@ from latehouse import words
 from latehouse.errors import BadCount
 from latehouse.words import are_unlike, caller, is_row, is_word
 from tests.things import (
-    Agreeing, Awkward, ThingsCase, things_of_no_count, things_of_no_number, things_of_no_text,
+    NO_ROWS, Agreeing, Awkward, ThingsCase, things_of_no_count, things_of_no_number, things_of_no_text,
 )
 
 ALPHABET = "abcdefghijklmnopqrstuvwxyz"
 ROWS = ["a", "z", "m", "by", "say", "mark", "tea", "teapot", "abcdefg", "abcdefgh", "zzzzzzzz"]
-NO_ROWS = [
-    "", "abcdefghi", "zzzzzzzzz", "a" * 10, "a" * 1000,
-    "Tea", "tEa", "teA", "TEA", "A", "Z", "t3a", "3", "tea3", "3tea", "0", "9",
-    " ", "te a", " tea", "tea ", "\ttea", "tea\t", "te\ta", "tea\n", "\ntea", "te\na", "\n",
-    "te-a", "tea.", "tea_", "_", "`", "{", "@", "[", "~", "'tea'",
-    "caf\u00e9", "\u00e9", "\u00df", "\u0430", "\uff41", "\u00aa", "te\u0000", "\u03b1", "\U0001d41a",
-]
 
 
 class RowTest(ThingsCase):

@@ -3,6 +3,17 @@
 import copy
 import unittest
 
+from latehouse.errors import HouseError
+
+# Texts that are no rows.
+NO_ROWS = [
+    "", "abcdefghi", "zzzzzzzzz", "a" * 10, "a" * 1000,
+    "Tea", "tEa", "teA", "TEA", "A", "Z", "t3a", "3", "tea3", "3tea", "0", "9",
+    " ", "te a", " tea", "tea ", "\ttea", "tea\t", "te\ta", "tea\n", "\ntea", "te\na", "\n",
+    "te-a", "tea.", "tea_", "_", "`", "{", "@", "[", "~", "'tea'",
+    "caf\u00e9", "\u00e9", "\u00df", "\u0430", "\uff41", "\u00aa", "te\u0000", "\u03b1", "\U0001d41a",
+]
+
 
 class Awkward:
     """A thing that fails whenever it is asked anything about itself."""
@@ -57,6 +68,14 @@ class ThingsCase(unittest.TestCase):
     def handing(self, thing):
         """Return a subtest that tells the kind of a thing, and never asks how it looks."""
         return self.subTest(kind=thing.__class__.__name__)
+
+    def assert_refused(self, refusal, call, *handed):
+        """See that a call is refused with just this class."""
+        with self.assertRaises(refusal) as refused:
+            call(*handed)
+        self.assertIs(type(refused.exception), refusal)
+        self.assertIsInstance(refused.exception, HouseError)
+        self.assertIsInstance(refused.exception, ValueError)
 
     def assert_unchanged(self, call, *handed):
         """Call with what is handed in, whatever comes of it, and see that it stays as it was."""
